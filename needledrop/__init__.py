@@ -1,0 +1,1 @@
+"""Needledrop: cards with overlapping codes."""
