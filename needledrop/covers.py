@@ -25,7 +25,7 @@ def fewest_words(parts, needed):
     level = [0]
     while level and needed not in reached:
         following = []
-        for mask in level:
+        for mask in list(level):
             for other, part in parts:
                 wider = mask | part
                 if wider not in reached:
