@@ -94,7 +94,7 @@ def least_covers(book, word):
     level = [()]
     while level:
         following = []
-        for choice in level:
+        for choice in list(level):
             if joined([masks[at] for at in choice]) == needed:
                 found.append(tuple([parts[at][0] for at in choice]))
             else:
