@@ -2,13 +2,9 @@
 
 from needledrop.checks import check_word, is_list
 from needledrop.errors import LimitExceeded
+from needledrop.masks import joined, mask_of
 
 MOST_COVERS = 80
-
-
-def mask_of(holes):
-    """The holes as one number, in which bit h stands for hole h."""
-    return sum([1 << hole for hole in holes])
 
 
 def shared_parts(book, word):
@@ -35,14 +31,6 @@ def fewest_words(parts, needed):
     if needed not in reached:
         return None
     return sorted(reached[needed])
-
-
-def joined(masks):
-    """The holes that are in at least one of the masks."""
-    whole = 0
-    for mask in masks:
-        whole = whole | mask
-    return whole
 
 
 def none_needless(masks):

@@ -18,6 +18,12 @@ def sample():
     return Book(6, {"dew": (3, 4, 5), "ash": [0, 1], "bay": (1, 2), "cob": (0, 2)})
 
 
+# Each is wrong as a number of words of a card.
+NO_COUNTS = NO_INTEGERS + NO_LISTS[:5] + (0, 15, -1, 10 ** 30, "", "ash", {0: 1}, sample())
+# Each is wrong as a word of the book of the worked examples.
+UNKNOWN_WORDS = NO_WORDS + ("elm", "as", "ashes", sample())
+
+
 def subsets(things):
     """All subsets as tuples: smaller ones first, equally large ones in order."""
     return [part for size in range(len(things) + 1) for part in combinations(things, size)]
@@ -28,6 +34,27 @@ def covers_by_search(book, word):
     others = [other for other in book.words() if other != word]
     return [part for part in subsets(others)
             if set(book.code(word)) <= {hole for other in part for hole in book.code(other)}]
+
+
+def cards_by_search(book, k):
+    """A dict from the cards of at most k words, in their order, to their holes."""
+    return {words: {hole for word in words for hole in book.code(word)}
+            for words in subsets(book.words()) if len(words) <= k}
+
+
+def large_books():
+    """Books of 14 words: with 24 holes and codes of 8, with fewer holes, and with one hole for each word."""
+    dice = random.Random(5)
+    letters = "abcdefghijklmn"
+    yield Book(24, {letter: sorted(dice.sample(range(24), 8)) for letter in letters})
+    yield Book(14, {letter: sorted(dice.sample(range(14), 8)) for letter in letters})
+    yield Book(9, {letter: sorted(dice.sample(range(9), dice.randint(1, 5))) for letter in letters})
+    yield Book(24, {letter: (at,) for at, letter in enumerate(letters)})
+
+
+def some_books():
+    """Every fifth one of the small books."""
+    return list(small_books())[::5]
 
 
 def small_books():

@@ -22,6 +22,48 @@ raises InvalidBook('word', 'Bay')
 >>> book = Book(6, {"ash": (0, 1), "bay": (1, 2), "cob": (0, 2), "dew": (3, 4, 5)})
 >>> [cover_of(book, "cob"), cover_of(book, "dew"), least_covers(book, "ash"), strength(book), is_cover(book, "cob", ("dew", "bay", "ash"))]
 [['ash', 'bay'], None, [('bay', 'cob')], 1, True]
+
+>>> from needledrop.books import Book
+>>> from needledrop.chances import card_share, false_share, mean_false
+>>> book = Book(6, {"ash": (0, 1), "bay": (1, 2), "cob": (0, 2), "dew": (3, 4, 5)})
+>>> [false_share(book, "cob", 2), mean_false(book, 2), card_share(book, 2), mean_false(book, 3), card_share(book, 3)]
+[(1, 3), (1, 2), (1, 2), (3, 4), (1, 4)]
+
+>>> from needledrop.books import Book
+>>> from needledrop.chances import false_share
+>>> book = Book(6, {"ash": (0, 1), "bay": (1, 2), "cob": (0, 2), "dew": (3, 4, 5)})
+>>> false_share(book, "cob", 4)
+raises LimitExceeded('words')
+
+>>> from needledrop.books import Book
+>>> from needledrop.needles import enough, least_needles, private
+>>> book = Book(6, {"ash": (0, 1), "bay": (1, 2), "cob": (0, 2), "dew": (3, 4, 5)})
+>>> [enough(book, "cob", (0,), 1), enough(book, "dew", [4], 3), enough(book, "cob", [], 2), private(book, "cob"), least_needles(book, "cob", 2), private(book, "dew")]
+[['ash'], None, [], [(0, 2)], [], [(3,), (4,), (5,)]]
+
+>>> from needledrop.books import Book
+>>> from needledrop.reading import count_readings, each_reading, first_reading
+>>> book = Book(4, {"a": (0, 1), "b": (1, 2), "c": (2, 3), "d": (0, 2)})
+>>> [count_readings(book, (0, 1, 2), 2), list(each_reading(book, (0, 1, 2), 3)), first_reading(book, (0, 1, 3), 2), first_reading(book, (0, 1, 3), 2, torn=1)]
+[3, [['a', 'b'], ['a', 'd'], ['b', 'd'], ['a', 'b', 'd']], None, ['a']]
+
+>>> from needledrop.books import Book
+>>> from needledrop.reading import barred_words, least_torn, maybe_words, sources, sure_words
+>>> book = Book(4, {"a": (0, 1), "b": (1, 2), "c": (2, 3), "d": (0, 2)})
+>>> [sure_words(book, (0, 1, 2), 2), maybe_words(book, (0, 1, 2), 2), barred_words(book, (0, 1, 2), 2), sure_words(book, [0, 1, 2, 3], 2), least_torn(book, [1, 3], 2), sources(book, [0, 1, 3])]
+[[], ['a', 'b', 'd'], ['c'], ['a', 'c'], 2, {0: ['a'], 1: ['a'], 3: []}]
+
+>>> from needledrop.books import Book
+>>> from needledrop.reading import sure_words
+>>> book = Book(4, {"a": (0, 1), "b": (1, 2), "c": (2, 3), "d": (0, 2)})
+>>> sure_words(book, (0, 1, 3), 2)
+raises NothingLeft('reading')
+
+>>> from needledrop.books import Book
+>>> from needledrop.reading import closest, twins
+>>> book = Book(3, {"a": (0,), "b": (1, 2)})
+>>> [twins(book, 2), closest(book, 1)[0], closest(book, 2)[0]]
+[None, 1, 1]
 '''
 
 
@@ -39,7 +81,7 @@ def told(lines):
 class ExamplesTest(unittest.TestCase):
     def test_examples(self):
         examples = EXAMPLES.strip().split("\n\n")
-        self.assertEqual(len(examples), 4)
+        self.assertEqual(len(examples), 11)
         for example in examples:
             *lines, expected = example.split("\n")
             self.assertEqual(told([line.removeprefix(">>> ") for line in lines]), expected)

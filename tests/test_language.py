@@ -27,7 +27,7 @@ def walked_names(walked):
         return [walked.id]
     if isinstance(walked, ast.Call) and isinstance(walked.func, ast.Attribute):
         return walked_names(walked.func.value) if walked.func.attr in ("items", "keys", "values") else []
-    if isinstance(walked, ast.Call) and walked.func.id in ("enumerate", "reversed", "zip"):
+    if isinstance(walked, ast.Call) and getattr(walked.func, "id", None) in ("enumerate", "reversed", "zip"):
         return [name for each in walked.args for name in walked_names(each)]
     return []
 
