@@ -85,6 +85,13 @@ def check_holes(book, holes):
         raise InvalidHoles(at)
 
 
+def check_code(book, code):
+    """Raise InvalidHoles if code is not a code of the book's holes."""
+    if not is_list(code) or not 1 <= len(code) <= LONGEST_CODE:
+        raise InvalidHoles(-1)
+    check_holes(book, code)
+
+
 def check_count(k):
     """Raise InvalidCount if k is not a number of words from 1 on."""
     if not is_integer(k) or not 1 <= k <= MOST_WORDS:

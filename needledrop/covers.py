@@ -33,6 +33,14 @@ def fewest_words(parts, needed):
     return sorted(reached[needed])
 
 
+def few_words(parts, needed, k):
+    """At most k words whose parts together are all that is needed, or None."""
+    words = fewest_words(parts, needed)
+    if words is None or len(words) > k:
+        return None
+    return words
+
+
 def none_needless(masks):
     """True if each mask has a hole that is in no other one of them."""
     once = 0

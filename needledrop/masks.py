@@ -23,9 +23,24 @@ def joined(masks):
     return whole
 
 
+def lies_in_one(mask, masks):
+    """True if all holes of the mask lie in one of the masks."""
+    return any([mask & other == mask for other in masks])
+
+
+def contains_one(mask, masks):
+    """True if all holes of one of the masks lie in the mask."""
+    return any([mask & other == other for other in masks])
+
+
 def coded_words(book):
     """Tuples of each word of the book, in ascending order, and its mask."""
     return [(word, mask_of(book.code(word))) for word in book.words()]
+
+
+def words_within(coded, mask):
+    """The words whose masks lie in the mask."""
+    return [word for word, code in coded if code & mask == code]
 
 
 def choices_by_size(parts, k):

@@ -1,9 +1,9 @@
 """Needles for a word, and whether they are enough."""
 
 from needledrop.checks import check_count, check_word, is_integer, is_list
-from needledrop.covers import fewest_words, shared_parts
+from needledrop.covers import few_words, shared_parts
 from needledrop.errors import InvalidHoles
-from needledrop.masks import choices_up_to, mask_of
+from needledrop.masks import choices_up_to, contains_one, lies_in_one, mask_of
 
 
 def check_needles(code, needles):
@@ -24,26 +24,14 @@ def enough(book, word, needles, k):
     check_count(k)
     needed = mask_of(needles)
     parts = [(other, part & needed) for other, part in shared_parts(book, word)]
-    holders = fewest_words(parts, needed)
-    if holders is None or len(holders) > k:
-        return None
-    return holders
+    return few_words(parts, needed, k)
 
 
-def lies_in_one(mask, masks):
-    """True if all holes of the mask lie in one of the masks."""
-    return any([mask & other == mask for other in masks])
+def least_masks(book, word, k):
+    """A dict from the masks of all least needles for the word, in order, to their holes.
 
-
-def contains_one(mask, masks):
-    """True if all holes of one of the masks lie in the mask."""
-    return any([mask & other == other for other in masks])
-
-
-def least_needles(book, word, k):
-    """All needles that are enough for k and from which no hole can be left out."""
-    check_word(book, word)
-    check_count(k)
+    Here k may be 0 too: then one hole is enough.
+    """
     held = sorted({whole for _, whole in choices_up_to(shared_parts(book, word), k)})
     code = book.code(word)
     found = {}
@@ -52,7 +40,14 @@ def least_needles(book, word, k):
     for needles, mask in choices_up_to([(hole, 1 << hole) for hole in code], len(code)):
         if not lies_in_one(mask, held) and not contains_one(mask, list(found)):
             found[mask] = needles
-    return list(found.values())
+    return found
+
+
+def least_needles(book, word, k):
+    """All needles that are enough for k and from which no hole can be left out."""
+    check_word(book, word)
+    check_count(k)
+    return list(least_masks(book, word, k).values())
 
 
 def private(book, word):

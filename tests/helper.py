@@ -4,13 +4,8 @@ import random
 from itertools import combinations, product
 
 from needledrop.books import Book
-
-# Values that are neither an integer, nor a string, nor a list, nor a dict.
-ODD_THINGS = (None, True, 1.5, b"ash", {1, 2}, frozenset((1,)), range(3), object, len, float("nan"), 1j)
-NO_LISTS = ODD_THINGS + (0, 7, "ash", "", {}, {0: 1})
-NO_WORDS = ODD_THINGS + (0, 7, "", "Ash", "ash ", "a1", "a\n", "abcdefghi", " ", "a-b", (), [], ["ash"], ("ash",),
-                         [[]], {}, {"ash": 1})
-NO_INTEGERS = (None, True, False, 1.0, "1", b"1", [], [1], (1,), {}, {1}, 1j)
+from needledrop.drawer import Drawer
+from needledrop.errors import LimitExceeded
 
 
 def sample():
@@ -18,10 +13,35 @@ def sample():
     return Book(6, {"dew": (3, 4, 5), "ash": [0, 1], "bay": (1, 2), "cob": (0, 2)})
 
 
+def example():
+    """The book of the example of point [47]."""
+    return Book(4, {"a": (0, 1), "b": (1, 2), "c": (2, 3), "d": (0, 2)})
+
+
+def nested(thing, depth):
+    """A list in a list, and so on, with the thing at the bottom."""
+    for _ in range(depth):
+        thing = [thing]
+    return thing
+
+
+# Objects of the program's own classes.
+OWN_THINGS = (Book(1, {"odd": (0,)}), Drawer(Book(2, {"odd": (1,)})))
+# Values that are neither an integer, nor a string, nor a list, nor a dict.
+ODD_THINGS = (None, True, 1.5, b"ash", {1, 2}, frozenset((1,)), range(3), object, len, float("nan"), 1j)
+NO_LISTS = ODD_THINGS + OWN_THINGS + (0, 7, "ash", "", {}, {0: 1})
+NO_WORDS = ODD_THINGS + OWN_THINGS + (0, 7, "", "Ash", "ash ", "a1", "a\n", "abcdefghi", " ", "a-b", (), [], ["ash"],
+                                      ("ash",), [[]], {}, {"ash": 1}, nested("ash", 20), ({"ash": ["ash"]},))
+NO_INTEGERS = (None, True, False, 1.0, "1", b"1", [], [1], (1,), {}, {1}, 1j, nested(1, 20)) + OWN_THINGS
 # Each is wrong as a number of words of a card.
-NO_COUNTS = NO_INTEGERS + NO_LISTS[:5] + (0, 15, -1, 10 ** 30, "", "ash", {0: 1}, sample())
+NO_COUNTS = NO_INTEGERS + ODD_THINGS + (0, 15, -1, 10 ** 30, "", "ash", {0: 1}, sample())
 # Each is wrong as a word of the book of the worked examples.
 UNKNOWN_WORDS = NO_WORDS + ("elm", "as", "ashes", sample())
+# Each is no list of 1 to 8 items.
+NO_CODE_LISTS = NO_LISTS + ((), [], tuple(range(9)), list(range(9)))
+# Each is wrong as a code of a book with 9 holes.
+NO_CODES = NO_CODE_LISTS + ((0, 0), (1, 0), (0, 1, 1), (9,), (-1,), (0, 9), (True,), (0, True), (0, 1.0), ("0",),
+                            (None,), [[0]], [(0, 1)], ((0,), (1,)), [0, [1]], [{}], nested(0, 20))
 
 
 def subsets(things):
@@ -40,6 +60,32 @@ def cards_by_search(book, k):
     """A dict from the cards of at most k words, in their order, to their holes."""
     return {words: {hole for word in words for hole in book.code(word)}
             for words in subsets(book.words()) if len(words) <= k}
+
+
+def truth(question, true):
+    """Whether the question comes out true if just these words are true."""
+    kind, *parts = question
+    if kind == "word":
+        return parts[0] in true
+    values = [truth(part, true) for part in parts]
+    return {"and": all(values), "or": any(values), "not": not values[0]}[kind]
+
+
+def random_question(dice, words, nodes, levels=8):
+    """A question of at most so many nodes and levels about some of the words."""
+    kinds = ["word"]
+    if nodes >= 2 and levels >= 2:
+        kinds = ["not", "word"]
+    if nodes >= 3 and levels >= 2:
+        kinds = ["not", "and", "or", "and", "or"]
+    kind = dice.choice(kinds)
+    if kind == "word":
+        return ("word", dice.choice(words))
+    if kind == "not":
+        return ("not", random_question(dice, words, nodes - 1, levels - 1))
+    left = dice.randint(1, nodes - 2)
+    return (kind, random_question(dice, words, left, levels - 1),
+            random_question(dice, words, nodes - 1 - left, levels - 1))
 
 
 def large_books():
@@ -74,6 +120,19 @@ def random_book(dice, n, count, longest):
     """A book with n holes and count words."""
     names = dice.sample([a + b for a in "abcdef" for b in ("", "a", "b", "zz")], count)
     return Book(n, {name: sorted(dice.sample(range(n), dice.randint(1, min(n, longest)))) for name in names})
+
+
+def held(drawer):
+    """What a drawer holds: its book, its cards and its last number, which the next put tells."""
+    other = drawer.twin()
+    numbers = other.numbers()
+    if len(other) == 60:
+        other.strike(numbers[0])
+    try:
+        last = other.put([]) - 1
+    except LimitExceeded:
+        last = 10 ** 9
+    return drawer.book, list(drawer.cards()), last
 
 
 def raised(call, *args, **more):

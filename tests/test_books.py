@@ -6,12 +6,9 @@ from needledrop.books import Book, false_words, falls, notches, shown
 from needledrop.checks import check_count
 from needledrop.covers import cover_of, is_cover, least_covers
 from needledrop.errors import InvalidBook, InvalidCount, InvalidHoles, InvalidWords, UnknownWord
-from helper import NO_INTEGERS, NO_LISTS, NO_WORDS, ODD_THINGS, raised, sample
+from helper import NO_CODES, NO_INTEGERS, NO_LISTS, NO_WORDS, ODD_THINGS, raised, sample
 
 FOURTEEN = {letter: (at,) for at, letter in enumerate("abcdefghijklmn")}
-# Each is wrong as a code of a book with 9 holes.
-NO_CODES = NO_LISTS + ((), [], (0, 0), (1, 0), (0, 1, 1), (9,), (-1,), (0, 9), (True,), (0, True), (0, 1.0), ("0",),
-                       (None,), [[0]], [(0, 1)], ((0,), (1,)), tuple(range(9)), list(range(9)), [0, [1]], [{}])
 
 
 class MakeTest(unittest.TestCase):

@@ -1,6 +1,7 @@
 """The rules of the language subset that can be read off the files alone."""
 
 import ast
+import builtins
 import unittest
 from pathlib import Path
 
@@ -86,6 +87,23 @@ class LanguageTest(unittest.TestCase):
                 if isinstance(node, ast.ImportFrom):
                     self.assertTrue(node.module.startswith("needledrop.") or node.module in LIBRARY, name)
                     self.assertEqual([each.asname for each in node.names if each.asname or each.name == "*"], [])
+
+    def test_what_classes_with_signs_forbid(self):
+        # A book has == and a drawer has +=, so any, all and the like take
+        # lists, and nothing is added in place.
+        for name, text in self.texts.items():
+            for node in ast.walk(ast.parse(text)):
+                self.assertNotIsInstance(node, (ast.GeneratorExp, ast.AugAssign), name)
+
+    def test_no_variable_has_the_name_of_an_import(self):
+        for name, text in self.texts.items():
+            nodes = list(ast.walk(ast.parse(text)))
+            taken = {each.name for node in nodes if isinstance(node, ast.ImportFrom) for each in node.names}
+            taken |= {node.name for node in nodes if isinstance(node, ast.ClassDef)}
+            used = {node.id for node in nodes if isinstance(node, ast.Name) and isinstance(node.ctx, ast.Store)}
+            used |= {node.arg for node in nodes if isinstance(node, ast.arg)}
+            self.assertEqual(taken & used, set(), name)
+            self.assertFalse([each for each in used if hasattr(builtins, each)], name)
 
     def test_no_loop_changes_what_it_walks(self):
         for name, text in self.texts.items():

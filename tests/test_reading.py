@@ -9,8 +9,8 @@ from needledrop.covers import strength
 from needledrop.errors import InvalidCount, InvalidHoles, LimitExceeded, NothingLeft
 from needledrop.reading import barred_words, closest, count_readings, each_reading, first_reading, least_torn
 from needledrop.reading import maybe_words, sources, sure_words, twins
-from helper import NO_COUNTS, NO_INTEGERS, NO_LISTS, cards_by_search, large_books, raised, random_book, sample
-from helper import small_books, some_books, subsets
+from helper import NO_COUNTS, NO_INTEGERS, NO_LISTS, cards_by_search, example, large_books, raised, random_book
+from helper import sample, small_books, some_books, subsets
 
 TOO_MANY = (LimitExceeded, {"limit": "readings"})
 NO_READING = (NothingLeft, {"what": "reading"})
@@ -23,11 +23,6 @@ def listed(book, holes, k, **more):
 
 
 READERS = (count_readings, first_reading, listed, sure_words, maybe_words, barred_words)
-
-
-def example():
-    """The book of the example of point [47]."""
-    return Book(4, {"a": (0, 1), "b": (1, 2), "c": (2, 3), "d": (0, 2)})
 
 
 def letters(codes):
