@@ -53,7 +53,7 @@ def read_code(n, codes, parts):
         return None
     word = parts[1]
     code = [read_number(part) for part in parts[2:]]
-    if not is_word(word) or word <= max(codes, default="") or not is_code(n, code):
+    if not is_word(word) or word <= max(list(codes), default="") or not is_code(n, code):
         return None
     return word, code
 
@@ -64,7 +64,7 @@ def read_card(codes, borne, parts):
         return None
     number = read_number(parts[1])
     words = parts[2:]
-    if number is None or not max(borne, default=0) < number <= GREATEST_NUMBER:
+    if number is None or not max(list(borne), default=0) < number <= GREATEST_NUMBER:
         return None
     if words != sorted(set(words)) or not all([word in codes for word in words]):
         return None
@@ -106,7 +106,7 @@ def read_book(text):
 def read_drawer(text):
     """A drawer with the book and the cards of this text."""
     n, codes, borne = read_lines(text, True)
-    return Drawer.numbered(Book(n, codes), borne, max(borne, default=0))
+    return Drawer.numbered(Book(n, codes), borne, max(list(borne), default=0))
 
 
 def word_at(text, at):
